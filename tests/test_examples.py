@@ -1,0 +1,63 @@
+"""The examples of the document, as they stand there, and that of the README."""
+
+import doctest
+import os
+import unittest
+
+README = os.path.join(os.path.dirname(os.path.dirname(os.path.abspath(__file__))), "README.md")
+
+EXAMPLES = {
+    "sites": '''
+>>> from framehistory.sites import Site
+>>> site = Site({'a': (('x', 'b'),), 'b': ()}, {'b': ('b', 'a'), 'a': ()}, 'a', pushes=('b',))
+>>> [site.frames, site.links, site.home, site.cap, site.pushes, site.drops]
+[{'a': (('x', 'b'),), 'b': ()}, {'a': (), 'b': ('a', 'b')}, 'a', 3, ('b',), False]
+''',
+    "machines": '''
+>>> from framehistory.machines import Machine
+>>> from framehistory.sites import Site
+>>> machine = Machine(Site({'a': (('x', 'b'),), 'b': (), 'c': ()}, {'a': (), 'b': ('c',), 'c': ('b',)}, 'a', drops=True))
+>>> found = [machine.do(deed) for deed in [('go', ('x',), 'c'), ('go', ('x',), 'b'), ('back',)]]
+>>> before = [found, machine[0], machine.shown(), machine.counts(), machine.can(('next',))]
+>>> [before, machine.do(('drop', ('x',))), machine.shown(), machine.counts(), list(machine.possible())]
+[[[None, None, None], ('a', 0, (('x', ('b', 0, ())),)), ('a', 0, (('x', ('c', 0, ())),)), (3, 1), True], None, ('a', 0, ()), (1, 0), []]
+''',
+    "machines with few cares": '''
+>>> from framehistory.machines import Machine
+>>> from framehistory.sites import Site
+>>> machine = Machine(Site({'a': (('x', 'b'),), 'b': ()}, {'a': (), 'b': ('b',)}, 'a'), cares=['prunes', 'shares'])
+>>> [machine.do(('go', ('x',), 'b')), machine.counts(), len(machine), machine.here, list(machine.possible())]
+[('steps', ()), (1, 0), 2, 1, []]
+''',
+    "states": '''
+>>> from framehistory.machines import Machine
+>>> from framehistory.sites import Site
+>>> from framehistory.states import state
+>>> machine = Machine(Site({'a': (('x', 'b'),), 'b': ()}, {'a': ('b',), 'b': ()}, 'a', pushes=('a',)))
+>>> first, found = state(machine), machine.do(('push', ()))
+>>> [first, state(machine)]
+[(((0, 'a', 0, (('x', (1, 'b', 0, ())),)),), 0, 1, 0, ((-1, 0, ('a', True, (('x', ((-1, 0, ('b', True, ())),)),))),)), (((0, 'a', 0, (('x', (1, 'b', 0, ())),)), (0, 'a', 1, (('x', (1, 'b', 0, ())),))), 1, 2, 1, ((-1, 0, ('a', True, (('x', ((-1, 0, ('b', True, ())),)),))), (1, 1, 0)))]
+''',
+}
+
+
+class Examples(unittest.TestCase):
+    def check(self, name, text):
+        test = doctest.DocTestParser().get_doctest(text, {}, name, None, 0)
+        self.assertGreater(len(test.examples), 2)
+        said = []
+        doctest.DocTestRunner(verbose=False).run(test, out=said.append)
+        self.assertEqual("".join(said), "")
+
+    def test_examples(self):
+        for name, text in EXAMPLES.items():
+            self.check(name, text)
+
+    def test_readme(self):
+        with open(README, encoding="utf-8") as file:
+            parts = file.read().split("```\n")
+        self.check("README", next(part for part in parts if part.startswith(">>>")))
+
+
+if __name__ == "__main__":
+    unittest.main()
