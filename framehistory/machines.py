@@ -93,7 +93,7 @@ class Machine:
         self.record = self.record.after(deed)
         self.browser = self.browser.after(deed)
         self._past.append(deed)
-        self._failure = _difference(self.record, self.browser)
+        self._failure = difference(self.record, self.browser)
         return self._failure
 
     def can(self, deed):
@@ -126,7 +126,8 @@ class Machine:
         return self.browser.step_counts()
 
 
-def _difference(record, browser):
+def difference(record, browser):
+    """Return the failure that a record and a browser show after a deed, or None."""
     if browser.step_counts() != (len(record.trees), record.current):
         return ("steps", ())
     path = _first_difference(seen_tree(record.tree()), browser.view(browser.frame), ())

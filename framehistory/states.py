@@ -3,36 +3,37 @@
 from framehistory.browsers import Browser
 from framehistory.errors import BadMachine
 from framehistory.machines import Machine
-from framehistory.records import Record
-from framehistory.trees import numbers_of
+from framehistory.spots import record_at, spot_of
 
 
 def state(machine):
     """Return the state of a machine."""
-    if not isinstance(machine, Machine) or machine.failure is not None:
-        raise BadMachine("not a machine without a failure")
-    numbers = {}
-    trees = tuple([_plain_tree(tree, numbers) for tree in machine.record.trees])
-    many, index = machine.counts()
-    return (trees, machine.here, many, index, _plain_frame(machine.browser, machine.browser.frame, {}))
+    check_machine(machine)
+    return state_of(machine.record, machine.browser)
 
 
 def machine_at(site, cares, state):
     """Return a machine in a state, without deeds so far."""
     machine = Machine(site, cares=cares)
     trees, here, many, index, frame = state
-    fresh = 1 + max([number for tree in trees for number in numbers_of(tree)])
-    machine.record = Record(site, trees, here, fresh)
+    machine.record = record_at(site, (trees, here))
     documents = {}
     entries = _entries_of(frame, documents)
     machine.browser = Browser(site, machine.cares, (0, many - 1, index), entries, documents)
     return machine
 
 
-def _plain_tree(tree, numbers):
-    number, address, mark, frames = tree
-    plain = numbers.setdefault(number, len(numbers))
-    return (plain, address, mark, tuple([(name, _plain_tree(inner, numbers)) for name, inner in frames]))
+def check_machine(machine):
+    """Refuse what is not a Machine, and one after a failure."""
+    if not isinstance(machine, Machine) or machine.failure is not None:
+        raise BadMachine("not a machine without a failure")
+
+
+def state_of(record, browser):
+    """Return the state that a record and a browser make up."""
+    trees, here = spot_of(record)
+    many, index = browser.step_counts()
+    return (trees, here, many, index, _plain_frame(browser, browser.frame, {}))
 
 
 def _plain_frame(browser, frame, numbers):

@@ -38,6 +38,41 @@ EXAMPLES = {
 >>> [first, state(machine)]
 [(((0, 'a', 0, (('x', (1, 'b', 0, ())),)),), 0, 1, 0, ((-1, 0, ('a', True, (('x', ((-1, 0, ('b', True, ())),)),))),)), (((0, 'a', 0, (('x', (1, 'b', 0, ())),)), (0, 'a', 1, (('x', (1, 'b', 0, ())),))), 1, 2, 1, ((-1, 0, ('a', True, (('x', ((-1, 0, ('b', True, ())),)),))), (1, 1, 0)))]
 ''',
+    "deciding": '''
+>>> from framehistory.deciding import Fails, decide, is_safe, run
+>>> from framehistory.sites import ALL_CARES, Site
+>>> site = Site({'a': (('x', 'b'),), 'b': (), 'c': ()}, {'a': ('c',), 'b': ('c',), 'c': ()}, 'a', clears=True)
+>>> history = (('go', ('x',), 'c'), ('go', (), 'c'), ('clear',), ('back',))
+>>> answers = [Fails(history).shows(site, ALL_CARES[:2]), Fails(history).shows(site, ALL_CARES[:3]), run(site, ALL_CARES, history).shown()]
+>>> [answers, is_safe(site, ALL_CARES[:8]), is_safe(site, ['joint', 'prunes', 'holds', 'covers', 'shares']), decide(site, ALL_CARES).shows(site, ALL_CARES)]
+[[True, False, ('a', 0, (('x', ('c', 0, ())),))], True, True, True]
+''',
+    "lists": '''
+>>> from framehistory.lists import answers, least_sets, needed
+>>> from framehistory.sites import Site
+>>> site = Site({'a': (('x', 'b'),), 'b': ()}, {'a': (), 'b': ('b',)}, 'a')
+>>> deeds = [('go', ('x',), 'b'), ('next',), ('back',)]
+>>> [answers(site, ['joint'], deeds), answers(site, (), deeds), least_sets(site, deeds), needed(site, deeds)]
+[[None, 'no', None], [('steps', ()), 'no', 'no'], [('joint',)], ['joint']]
+''',
+    "routes": '''
+>>> from framehistory.deciding import run
+>>> from framehistory.routes import NoRoute, Route, route
+>>> from framehistory.sites import Site
+>>> site = Site({'a': (('x', 'b'),), 'b': (), 'c': ()}, {'a': ('c',), 'b': ('c',), 'c': ()}, 'a')
+>>> machine = run(site, (), [('go', (), 'c')])
+>>> found, none = route(machine, ('x',), 'c'), route(machine, ('x',), 'c', words=['back', 'next'])
+>>> [found.deeds, found.shows(machine, ('x',), 'c'), isinstance(none, NoRoute), len(none.spots), route(machine, (), 'a', words=['back']).deeds]
+[(('back',), ('go', ('x',), 'c')), True, True, 2, (('back',),)]
+''',
+    "keeping": '''
+>>> from framehistory.keeping import count_kept, most_kept
+>>> from framehistory.machines import Machine
+>>> from framehistory.sites import ALL_CARES, Site
+>>> site = Site({'a': (('x', 'b'),), 'b': ()}, {'a': ('b',), 'b': ()}, 'a', clears=True)
+>>> [count_kept(Machine(site)), most_kept(site, ALL_CARES).number, most_kept(site, ALL_CARES[:8]).shows(site, ALL_CARES[:8])]
+[2, 3, True]
+''',
 }
 
 
@@ -56,7 +91,8 @@ class Examples(unittest.TestCase):
     def test_readme(self):
         with open(README, encoding="utf-8") as file:
             parts = file.read().split("```\n")
-        self.check("README", next(part for part in parts if part.startswith(">>>")))
+        # One after the other: the later ones use what the first one has made.
+        self.check("README", "".join(part for part in parts if part.startswith(">>>")))
 
 
 if __name__ == "__main__":

@@ -18,6 +18,13 @@ INTERFACE = {
         ),
     },
     "states.py": {"state": None, "machine_at": None},
+    "deciding.py": {
+        "decide": None, "is_safe": None, "run": None, "count_states": None, "Safe": ("shows", "__eq__"),
+        "Fails": ("shows", "__eq__"),
+    },
+    "lists.py": {"answers": None, "sufficient": None, "least_sets": None, "needed": None, "harms": None},
+    "routes.py": {"route": None, "Route": ("shows", "__eq__"), "NoRoute": ("shows", "__eq__")},
+    "keeping.py": {"count_kept": None, "most_kept": None, "Peak": ("shows", "__eq__")},
 }
 BAD = (
     ("L2", "import os"), ("L2", "from os import path"), ("L2", "from framehistory.a import *"),
