@@ -19,6 +19,13 @@ def ordered_cares(cares):
     return tuple([care for care in ALL_CARES if care in cares])
 
 
+def is_set(value):
+    """Say whether a value is a set of cares: a tuple of different ones, in order."""
+    if not isinstance(value, tuple) or not all([_is_care(care) for care in value]):
+        return False
+    return list(value) == [care for care in ALL_CARES if care in value]
+
+
 def is_path(site, value):
     """Say whether a value is a path with at most two names of frames of any pages of a site."""
     if not isinstance(value, tuple) or len(value) > 2:

@@ -13,13 +13,18 @@ PLAIN_WORDS = ("back", "next", "clear", "reopen")
 def all_deeds(site):
     """Return the list of all deeds of a site, possible or not."""
     check_site(site)
-    names = site.frame_names()
-    paths = [()] + [(name,) for name in names] + [(name, inner) for name in names for inner in names]
+    paths = all_paths(site)
     deeds = [("go", path, address) for path in paths for address in site.addresses()]
     deeds.extend([("push", path) for path in paths])
     deeds.extend([("drop", path) for path in paths if path != ()])
     deeds.extend([(word,) for word in PLAIN_WORDS])
     return deeds
+
+
+def all_paths(site):
+    """Return the list of all paths with at most two names of frames of any pages, by their lengths, then as tuples."""
+    names = site.frame_names()
+    return [()] + [(name,) for name in names] + [(name, inner) for name in names for inner in names]
 
 
 def is_deed(site, value):
@@ -116,6 +121,14 @@ class Machine:
         twin._past = list(self._past)
         twin._failure = self._failure
         return twin
+
+    def take_back(self, record, browser):
+        """Take back the last deed, before which there were this record and this browser."""
+        self._past.pop()
+        # It was possible, so there was no failure before it.
+        self._failure = None
+        self.record = record
+        self.browser = browser
 
     def shown(self):
         """Return what the browser shows: (address, state, frames)."""

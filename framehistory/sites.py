@@ -102,13 +102,14 @@ class Site:
         return self._depths[address]
 
 
+def is_name(value):
+    """Say whether a value is a name, of a frame or as an address."""
+    return isinstance(value, str) and 1 <= len(value) <= 8 and all(["a" <= letter <= "z" for letter in value])
+
+
 def _require(right, part):
     if not right:
         raise BadSite(part)
-
-
-def _is_name(value):
-    return isinstance(value, str) and 1 <= len(value) <= 8 and all(["a" <= letter <= "z" for letter in value])
 
 
 def _is_key(value, frames):
@@ -119,7 +120,7 @@ def _is_key(value, frames):
 def _are_frames(value):
     if not isinstance(value, dict) or not 1 <= len(value) <= 4:
         return False
-    if not all([_is_name(address) for address in value]):
+    if not all([is_name(address) for address in value]):
         return False
     return all([_are_pairs(value[address], value) for address in value]) and _is_shallow(value)
 
@@ -133,7 +134,7 @@ def _are_pairs(rows, frames):
 
 
 def _is_pair(row, frames):
-    return isinstance(row, tuple) and len(row) == 2 and _is_name(row[0]) and _is_key(row[1], frames)
+    return isinstance(row, tuple) and len(row) == 2 and is_name(row[0]) and _is_key(row[1], frames)
 
 
 def _is_shallow(frames):

@@ -591,12 +591,26 @@ class Reader:
             self.read_property(part)
         if part.name in ("__eq__", "__len__", "__repr__", "__str__", "__getitem__"):
             self.read_changes(part)
+        if part.name == "__exit__":
+            self.read_exit(part)
         if part.name == "__init__" and any(isinstance(one, ast.Return) for one in ast.walk(part)):
             self.say("L28", part, "__init__ returns")
         if part.name == "__len__":
             value = part.body[-1].value if isinstance(part.body[-1], ast.Return) else None
             if not (isinstance(value, ast.Call) and call_name(value) == "len"):
                 self.say("L28", part, "__len__ returns something else")
+
+    def read_exit(self, part):
+        """Only plain assignments, the first of them perhaps to a local name."""
+        if [one.arg for one in all_arguments(part)] != ["self", "kind", "value", "trace"]:
+            self.say("L6", part, "other parameters of __exit__")
+        for index, row in enumerate(part.body):
+            plain = isinstance(row, ast.Assign) and len(row.targets) == 1 and isinstance(row.value, (ast.Attribute, ast.Name))
+            target = row.targets[0] if plain else None
+            inner = ast.walk(row.value) if plain else ()
+            plain = plain and all(isinstance(one, (ast.Attribute, ast.Name, ast.expr_context)) for one in inner)
+            if not plain or not isinstance(target, ast.Attribute if index else (ast.Attribute, ast.Name)):
+                self.say("L6", row, "a row that may not stand in __exit__")
 
     def read_property(self, part):
         self.read_changes(part)

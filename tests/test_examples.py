@@ -73,6 +73,26 @@ EXAMPLES = {
 >>> [count_kept(Machine(site)), most_kept(site, ALL_CARES).number, most_kept(site, ALL_CARES[:8]).shows(site, ALL_CARES[:8])]
 [2, 3, True]
 ''',
+    "fields": r'''
+>>> from framehistory.fields import choose, family, rescues
+>>> from framehistory.sites import Site
+>>> site = Site({'a': (('x', 'b'),), 'b': ()}, {'a': (), 'b': ('b',)}, 'a')
+>>> found = family(site, ('prunes', 'covers'), ('joint', 'holds'))
+>>> [found.sets, found.least(), found.greatest(), rescues(site, ('prunes', 'covers'), ('joint',)), choose(site, ('prunes',), ('joint', 'covers'), {'joint': 3, 'covers': 0}).found]
+[[('joint',), ('joint', 'holds')], [('joint',)], [('joint', 'holds')], [((), ('joint',))], ('joint',)]
+''',
+    "digits, sessions and texts": r'''
+>>> from framehistory.digits import decode, encode
+>>> from framehistory.sessions import Session
+>>> from framehistory.sites import Site
+>>> from framehistory.texts import deed_text, journal_text, replay, site_text
+>>> site = Site({'a': (('x', 'b'),), 'b': ()}, {'a': (), 'b': ('b',)}, 'a', cap=2, drops=True)
+>>> session = Session(site)
+>>> found = [session.deed(('go', ('x',), 'b')), session.deed(('next',)), session.tried([('back',), ('drop', ('x',))]), session.undo()]
+>>> text = journal_text(site, session.journal)
+>>> [found, site_text(site), deed_text(site, ('push', ())), text, replay(site, (), text), encode(site, (), (('drop', ('x',)),)), decode(site, ['joint'], '0002')]
+[[None, 'no', [None, None], (('next',), 'no')], 'page a x:b\npage b\nlinks a\nlinks b b\nhome a\ncap 2\npushes\ndrops yes\nclears no\nreopens no\n', 'push /', 'go /x b -> done\n', 0, '01', (('go', ('x',), 'b'), ('back',))]
+''',
 }
 
 

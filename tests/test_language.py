@@ -25,6 +25,16 @@ INTERFACE = {
     "lists.py": {"answers": None, "sufficient": None, "least_sets": None, "needed": None, "harms": None},
     "routes.py": {"route": None, "Route": ("shows", "__eq__"), "NoRoute": ("shows", "__eq__")},
     "keeping.py": {"count_kept": None, "most_kept": None, "Peak": ("shows", "__eq__")},
+    "fields.py": {
+        "family": None, "breaches": None, "rescues": None, "choose": None,
+        "Family": ("least", "greatest", "shows", "__eq__"), "Chosen": ("shows", "__eq__"),
+    },
+    "sessions.py": {"Session": ("journal", "__len__", "machine", "deed", "undo", "branch", "trial", "tried")},
+    "texts.py": {
+        "site_text": None, "read_site": None, "cares_text": None, "read_cares": None, "deed_text": None,
+        "journal_text": None, "read_journal": None, "replay": None,
+    },
+    "digits.py": {"encode": None, "decode": None},
 }
 BAD = (
     ("L2", "import os"), ("L2", "from os import path"), ("L2", "from framehistory.a import *"),
@@ -51,6 +61,10 @@ BAD = (
     ("L24", "def f():\n    return {1, 2}"), ("L25", "def f(n):\n    return n.hex()"),
     ("L26", "class A:\n    def encode(self):\n        return 1"), ("L26", "class A:\n    def __init__(self):\n        self.items = 1"),
     ("L27", "n = 'a%b'"), ("L27", "def f(a, b):\n    return a ** b"), ("L28", "class A:\n    def __len__(self):\n        return self.f()"),
+    ("L6", "class A:\n    def __exit__(self, kind, value, trace):\n        self.f()"),
+    ("L6", "class A:\n    def __exit__(self, kind, value, trace):\n        self.n = self.rows[0]"),
+    ("L6", "class A:\n    def __exit__(self, kind):\n        self.n = 1"),
+    ("L6", "class A:\n    def __exit__(self, kind, value, trace):\n        return True"),
 )
 
 
